@@ -1,0 +1,1 @@
+"""Runroots: the runs of a machine as the roots of equations."""
