@@ -54,6 +54,14 @@ def plus(first, second):
     return _without_zeros(sums)
 
 
+def sum_of(polynomials):
+    """Return the sum of a list of polynomials."""
+    total = constant(0)
+    for polynomial in polynomials:
+        total = plus(total, polynomial)
+    return total
+
+
 def minus(first, second):
     """Return the difference of two polynomials."""
     return plus(first, scaled(second, -1))

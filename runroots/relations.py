@@ -1,7 +1,7 @@
 """Relations: tuples of a word and the polynomials that it speaks of."""
 
 from runroots.integers import raised
-from runroots.poly import is_polynomial, value_of
+from runroots.poly import is_polynomial, minus, value_of
 
 # The words of the relations, each with the number of its polynomials.
 KINDS = {"zero": 1, "under": 2, "power": 3, "row": 3}
@@ -17,6 +17,11 @@ def is_relation(value):
         if not is_polynomial(polynomial):
             return False
     return True
+
+
+def equal(first, second):
+    """Return the relation that two polynomials have the same value."""
+    return ("zero", minus(first, second))
 
 
 def row_member(n, a):

@@ -1,8 +1,8 @@
-"""Systems: unknowns, the relations between them, and the check of values."""
+"""Systems: unknowns, the relations between them, the check of values, and what stairs share."""
 
-from runroots.errors import BadSystem, BadValues
+from runroots.errors import BadSystem, BadValues, NotSolution
 from runroots.integers import is_natural
-from runroots.poly import copied, is_name, names_in
+from runroots.poly import copied, is_name, names_in, unknown, value_of
 from runroots.relations import KINDS, holds, is_relation
 
 LONGEST_STEM = 6
@@ -51,12 +51,24 @@ def _demand_relations(relations, unknowns):
 
 def check(system, values):
     """Return (True, 0) if every relation holds, else (False, the index of the first that does not)."""
-    if not _fits(system, values):
-        raise BadValues("the values are not integers from 0 on for exactly the unknowns")
+    demand_values(system, values)
     for index, relation in enumerate(system.relations):
         if not holds(relation, values):
             return False, index
     return True, 0
+
+
+def demand_values(system, values):
+    """Raise BadValues unless the values are integers from 0 on for exactly the unknowns."""
+    if not _fits(system, values):
+        raise BadValues("the values are not integers from 0 on for exactly the unknowns")
+
+
+def demand_solution(system, values):
+    """Raise BadValues as check does, and otherwise NotSolution if a relation does not hold."""
+    right, index = check(system, values)
+    if not right:
+        raise NotSolution(index)
 
 
 def _fits(system, values):
@@ -101,3 +113,43 @@ def stem(system, letter):
         if not any([name.startswith(text) for name in system.unknowns]):
             return text
     raise BadSystem(f"unknowns begin with {LONGEST_STEM} times the letter {letter}")
+
+
+def witness_names(system, word, letter, marks):
+    """Return a dict from the indexes of the relations with this word to the lists of their witnesses' names."""
+    start = stem(system, letter)
+    return {
+        index: [f"{start}{index}{mark}" for mark in marks]
+        for index, relation in enumerate(system.relations)
+        if relation[0] == word
+    }
+
+
+def lowered(system, names, write):
+    """Return the system in which `write`, of a relation and its witnesses, tells what stands for each relation."""
+    unknowns = list(system.unknowns)
+    relations = []
+    for index, relation in enumerate(system.relations):
+        if index in names:
+            unknowns.extend(names[index])
+            relations.extend(write(relation, [unknown(name) for name in names[index]]))
+        else:
+            relations.append(relation)
+    # The constructor refuses names that are too long.
+    return System(unknowns, relations)
+
+
+def with_witnesses(system, names, work_out, values):
+    """Return a solution with its witnesses, which `work_out` tells for the values of a relation's polynomials."""
+    demand_solution(system, values)
+    found = values_of(system, values)
+    for index, given in names.items():
+        numbers = [value_of(polynomial, values) for polynomial in system.relations[index][1:]]
+        for name, number in zip(given, work_out(*numbers)):
+            found[name] = number
+    return found
+
+
+def values_of(system, values):
+    """Return a new dict with the values of the unknowns alone."""
+    return {name: values[name] for name in system.unknowns}

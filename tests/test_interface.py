@@ -20,8 +20,33 @@ FUNCTIONS = {
         "check": ["system", "values"], "joined": ["first", "second"], "renamed": ["system", "prefix"],
         "stem": ["system", "letter"],
     },
+    "written": {"polynomial_text": ["polynomial"], "text_of": ["system"], "system_of": ["text"]},
+    "counters": {"stops": ["machine", "run"], "is_run": ["machine", "value"]},
+    "listing": {"machine_text": ["machine"], "machine_of": ["text"]},
+    "history": {
+        "history": ["machine"], "asked": ["machine", "inputs", "answers"], "solution": ["machine", "run", "c"],
+        "least_bits": ["run"], "run_of": ["machine", "values"], "digits_of": ["number", "c", "count"],
+        "number_of": ["digits", "c"],
+    },
+    "binomial": {
+        "binomial": ["n", "k"], "carries": ["a", "b"], "twos": ["n"], "digit_of": ["number", "base", "position"],
+        "is_under": ["a", "b"], "power_digits": ["b"],
+    },
+    "masks": {"mask_sizes": ["system", "values"]},
+    "pairs": {
+        "pair": ["n", "a"], "added": ["first", "second", "a"], "taken": ["first", "second", "a"],
+        "pair_rest": ["n", "a", "m"], "index_of": ["value", "a"], "rank": ["a", "m"],
+    },
 }
-METHODS = {"system": {"System": {"__init__": ["self", "unknowns", "relations"], "kinds": ["self"]}}}
+METHODS = {
+    "system": {"System": {"__init__": ["self", "unknowns", "relations"], "kinds": ["self"]}},
+    "counters": {"Machine": {
+        "__init__": ["self", "registers", "lines"], "line": ["self", "number"], "table": ["self"],
+        "step": ["self", "configuration"], "run": ["self", "inputs", "most"],
+    }},
+    "masks": {"MaskStair": {"__init__": ["self", "upper"], "down": ["self", "values"], "up": ["self", "values"]}},
+    "powerstair": {"PowerStair": {"__init__": ["self", "system"], "down": ["self", "values"], "up": ["self", "values"]}},
+}
 
 
 def defined(name):

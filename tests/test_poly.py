@@ -5,8 +5,8 @@ import itertools
 import unittest
 
 from runroots.poly import (
-    constant, degree, is_name, is_polynomial, minus, names_in, plus, power_of, replaced, scaled, times, unknown,
-    value_of,
+    constant, degree, is_name, is_polynomial, minus, names_in, plus, power_of, replaced, scaled, sum_of, times,
+    unknown, value_of,
 )
 
 X, Y, Z = unknown("x"), unknown("y"), unknown("z")
@@ -88,6 +88,16 @@ class Making(unittest.TestCase):
     def test_plus_leaves_out_what_cancels(self):
         self.assertEqual(plus({(): 1, ("x",): 2}, {(): -1, ("x",): 1}), {("x",): 3})
         self.assertEqual(plus({("x",): GREAT}, {("x",): -GREAT}), {})
+
+    def test_sum_of(self):
+        self.assertEqual(sum_of([]), {})
+        self.assertEqual(sum_of([X]), X)
+        self.assertEqual(sum_of([X, ONE, Y, X, TWO]), {(): 3, ("x",): 2, ("y",): 1})
+        self.assertEqual(sum_of([X, {("x",): -1}]), {})
+        some = [dict(X), dict(Y)]
+        sum_of(some)[("x",)] = 5
+        sum_of(some[:1])[("x",)] = 5
+        self.assertEqual(some, [X, Y])
 
     def test_minus(self):
         self.assertEqual(minus(X, Y), {("x",): 1, ("y",): -1})

@@ -6,7 +6,7 @@ import itertools
 import unittest
 
 from runroots.poly import constant, minus, plus, times, unknown
-from runroots.relations import holds, is_relation, row_member
+from runroots.relations import equal, holds, is_relation, row_member
 
 A, B, X, Y, Z, N = [unknown(name) for name in "abxyzn"]
 HUGE = (10 ** 30, 10 ** 30 + 1, 10 ** 200)
@@ -72,6 +72,14 @@ class Zero(unittest.TestCase):
         self.assertIs(holds(("zero", X), {"x": -1}), False)
         self.assertIs(holds(relation, {"x": 10 ** 100, "y": 10 ** 200}), True)
         self.assertIs(holds(relation, {"x": 10 ** 100, "y": 10 ** 200 + 1}), False)
+
+
+class Equal(unittest.TestCase):
+    def test_equal(self):
+        self.assertEqual(equal(X, Y), ("zero", {("x",): 1, ("y",): -1}))
+        self.assertEqual(equal(constant(2), constant(2)), ("zero", {}))
+        for x, y in itertools.product(range(4), repeat=2):
+            self.assertIs(holds(equal(X, Y), {"x": x, "y": y}), x == y)
 
 
 class Under(unittest.TestCase):

@@ -3,9 +3,12 @@
 import copy
 import unittest
 
-from runroots.errors import BadSystem, BadValues
+from runroots.errors import BadSystem, BadValues, NotSolution
 from runroots.poly import constant, minus, plus, times, unknown
-from runroots.system import System, check, joined, renamed, stem
+from runroots.system import (
+    System, check, demand_solution, demand_values, joined, lowered, renamed, stem, values_of, with_witnesses,
+    witness_names,
+)
 
 X, Y, Z = unknown("x"), unknown("y"), unknown("z")
 SQUARE = ("zero", minus(times(X, X), constant(4)))
@@ -245,6 +248,58 @@ class Stem(unittest.TestCase):
         with self.assertRaises(BadSystem):
             stem(System(["mmmmmm"], []), "m")
         self.assertEqual(stem(System(["mmmmmm"], []), "n"), "n")
+
+
+class Demands(unittest.TestCase):
+    def test_demand_values(self):
+        demand_values(example(), {"x": 7, "y": 7})
+        for values in ({}, {"x": 2}, {"x": 2, "y": -4}, {"x": 2, "y": True}, {"x": 2, "y": 4, "z": 0}, None):
+            with self.assertRaises(BadValues):
+                demand_values(example(), values)
+
+    def test_demand_solution(self):
+        demand_solution(example(), {"x": 2, "y": 4})
+        for values, index in (({"x": 3, "y": 4}, 0), ({"x": 2, "y": 5}, 1)):
+            with self.assertRaises(NotSolution) as caught:
+                demand_solution(example(), values)
+            self.assertEqual(caught.exception.index, index)
+        with self.assertRaises(BadValues):
+            demand_solution(example(), {"x": 3})
+
+
+class Stairs(unittest.TestCase):
+    """What stairs share, with a stair that means nothing."""
+
+    def upper(self):
+        return System(["x", "w", "y"], [SQUARE, ("under", X, Y), SQUARE, ("under", Y, Y)])
+
+    def test_names(self):
+        self.assertEqual(witness_names(self.upper(), "under", "w", "ab"),
+                         {1: ["ww1a", "ww1b"], 3: ["ww3a", "ww3b"]})
+        self.assertEqual(witness_names(self.upper(), "power", "w", "ab"), {})
+        with self.assertRaises(BadSystem):
+            witness_names(System(["wwwwww"], []), "power", "w", "ab")
+
+    def test_lowered(self):
+        def write(relation, witnesses):
+            return [("zero", minus(relation[1], witnesses[0])), ("under", *witnesses)]
+
+        system = lowered(self.upper(), {1: ["a", "b"], 3: ["c", "d"]}, write)
+        self.assertEqual(system.unknowns, ("x", "w", "y", "a", "b", "c", "d"))
+        self.assertEqual(system.relations, (
+            SQUARE, ("zero", minus(X, unknown("a"))), ("under", unknown("a"), unknown("b")),
+            SQUARE, ("zero", minus(Y, unknown("c"))), ("under", unknown("c"), unknown("d"))))
+        with self.assertRaises(BadSystem):
+            lowered(self.upper(), {1: ["abcdefghijklm", "b"]}, write)
+
+    def test_values(self):
+        values = {"x": 2, "w": 9, "y": 6}
+        found = with_witnesses(self.upper(), {1: ["a", "b"], 3: ["c", "d"]}, lambda a, b: [a + b, a * b], values)
+        self.assertEqual(found, {"x": 2, "w": 9, "y": 6, "a": 8, "b": 12, "c": 12, "d": 36})
+        self.assertEqual(values, {"x": 2, "w": 9, "y": 6})
+        self.assertEqual(values_of(self.upper(), found), values)
+        with self.assertRaises(NotSolution):
+            with_witnesses(self.upper(), {}, None, {"x": 2, "w": 9, "y": 5})
 
 
 if __name__ == "__main__":
