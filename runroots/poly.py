@@ -46,20 +46,22 @@ def copied(polynomial):
     return {monomial: polynomial[monomial] for monomial in polynomial}
 
 
-def plus(first, second):
-    """Return the sum of two polynomials."""
-    sums = copied(first)
-    for monomial, number in second.items():
+def collected(terms):
+    """Return the polynomial of a list of terms, tuples of a monomial and a number, with those of one monomial added."""
+    sums = {}
+    for monomial, number in terms:
         sums[monomial] = sums.get(monomial, 0) + number
     return _without_zeros(sums)
 
 
 def sum_of(polynomials):
     """Return the sum of a list of polynomials."""
-    total = constant(0)
-    for polynomial in polynomials:
-        total = plus(total, polynomial)
-    return total
+    return collected([term for polynomial in polynomials for term in polynomial.items()])
+
+
+def plus(first, second):
+    """Return the sum of two polynomials."""
+    return sum_of([first, second])
 
 
 def minus(first, second):
@@ -74,12 +76,11 @@ def scaled(polynomial, number):
 
 def times(first, second):
     """Return the product of two polynomials."""
-    sums = {}
-    for left, number in first.items():
-        for right, factor in second.items():
-            monomial = _merged(left, right)
-            sums[monomial] = sums.get(monomial, 0) + number * factor
-    return _without_zeros(sums)
+    return collected([
+        (_merged(left, right), number * factor)
+        for left, number in first.items()
+        for right, factor in second.items()
+    ])
 
 
 def power_of(polynomial, exponent):
@@ -96,13 +97,12 @@ def replaced(polynomial, name, other):
     powers = [constant(1)]
     for _ in range(most):
         powers.append(times(powers[-1], other))
-    sums = {}
+    terms = []
     for monomial, number in polynomial.items():
         rest = tuple([item for item in monomial if item != name])
         for added, factor in powers[monomial.count(name)].items():
-            whole = _merged(rest, added)
-            sums[whole] = sums.get(whole, 0) + number * factor
-    return _without_zeros(sums)
+            terms.append((_merged(rest, added), number * factor))
+    return collected(terms)
 
 
 def value_of(polynomial, values):

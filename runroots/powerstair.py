@@ -2,7 +2,7 @@
 
 from runroots.pairs import pair
 from runroots.poly import constant, minus, plus, scaled, sum_of, times
-from runroots.relations import equal, row_member
+from runroots.relations import equal, one_apart, row_member, zero_test
 from runroots.system import lowered, values_of, with_witnesses, witness_names
 
 MARKS = "stvuhwbcqr"
@@ -32,23 +32,13 @@ def _relations(relation, witnesses):
     g = plus(x, s)
     base = plus(w, g)
     k = _divisor(g, w)
-    return _zero_test(x, s, t) + _zero_test(y, v, u) + [
+    return zero_test(x, s, t) + zero_test(y, v, u) + [
         ("row", w, plus(y, one), plus(g, one)),
         ("row", c, y, base),
-        equal(minus(times(b, b), times(minus(times(base, base), one), times(c, c))), one),
+        one_apart(b, c, base),
         equal(minus(minus(b, times(c, w)), h), times(k, q)),
         equal(minus(minus(k, one), h), r),
         ("zero", sum_of([z, scaled(h, -1), times(s, h), scaled(times(s, v), -1)])),
-    ]
-
-
-def _zero_test(value, flag, rest):
-    """Return the relations that make the flag 1 where the value is 0, and 0 where it is from 1 on."""
-    one = constant(1)
-    return [
-        ("zero", times(value, flag)),
-        equal(times(flag, flag), flag),
-        equal(minus(plus(value, flag), one), rest),
     ]
 
 

@@ -1,7 +1,7 @@
 """Relations: tuples of a word and the polynomials that it speaks of."""
 
 from runroots.integers import raised
-from runroots.poly import is_polynomial, minus, value_of
+from runroots.poly import constant, is_polynomial, minus, plus, times, value_of
 
 # The words of the relations, each with the number of its polynomials.
 KINDS = {"zero": 1, "under": 2, "power": 3, "row": 3}
@@ -22,6 +22,21 @@ def is_relation(value):
 def equal(first, second):
     """Return the relation that two polynomials have the same value."""
     return ("zero", minus(first, second))
+
+
+def one_apart(x, y, a):
+    """Return the relation that (x, y) is a pair of a: its squares, that of y times a * a - 1, are one apart."""
+    one = constant(1)
+    return equal(minus(times(x, x), times(minus(times(a, a), one), times(y, y))), one)
+
+
+def zero_test(polynomial, flag, rest):
+    """Return the relations that make the flag 1 where the polynomial is 0, and 0 where it is from 1 on."""
+    return [
+        ("zero", times(polynomial, flag)),
+        equal(times(flag, flag), flag),
+        equal(minus(plus(polynomial, flag), constant(1)), rest),
+    ]
 
 
 def row_member(n, a):

@@ -71,6 +71,17 @@ def demand_solution(system, values):
         raise NotSolution(index)
 
 
+def has_zeros_alone(system):
+    """Return whether all relations of a system are "zero"."""
+    return system.kinds()["zero"] == len(system.relations)
+
+
+def demand_zeros(system):
+    """Raise BadSystem unless all relations of a system are "zero"."""
+    if not has_zeros_alone(system):
+        raise BadSystem("a relation is none of the kind zero")
+
+
 def _fits(system, values):
     if not isinstance(values, dict) or len(values) != len(system.unknowns):
         return False

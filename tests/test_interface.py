@@ -37,6 +37,11 @@ FUNCTIONS = {
         "pair": ["n", "a"], "added": ["first", "second", "a"], "taken": ["first", "second", "a"],
         "pair_rest": ["n", "a", "m"], "index_of": ["value", "a"], "rank": ["a", "m"],
     },
+    "index": {"witnesses": ["k", "a"], "is_witness": ["k", "a", "values"], "digits_needed": ["k", "a"]},
+    "foursquares": {
+        "square_sums": ["n"], "four_squares": ["n"], "square_product": ["first", "second"],
+        "is_three_squares": ["n"], "is_two_squares": ["n"],
+    },
 }
 METHODS = {
     "system": {"System": {"__init__": ["self", "unknowns", "relations"], "kinds": ["self"]}},
@@ -46,6 +51,10 @@ METHODS = {
     }},
     "masks": {"MaskStair": {"__init__": ["self", "upper"], "down": ["self", "values"], "up": ["self", "values"]}},
     "powerstair": {"PowerStair": {"__init__": ["self", "system"], "down": ["self", "values"], "up": ["self", "values"]}},
+    "rowstair": {"RowStair": {"__init__": ["self", "system"], "down": ["self", "values"], "up": ["self", "values"]}},
+    "products": {"ProductStair": {
+        "__init__": ["self", "upper"], "pairs": ["self"], "down": ["self", "values"], "up": ["self", "values"],
+    }},
 }
 
 

@@ -5,8 +5,8 @@ import itertools
 import unittest
 
 from runroots.poly import (
-    constant, degree, is_name, is_polynomial, minus, names_in, plus, power_of, replaced, scaled, sum_of, times,
-    unknown, value_of,
+    collected, constant, degree, is_name, is_polynomial, minus, names_in, plus, power_of, replaced, scaled, sum_of,
+    times, unknown, value_of,
 )
 
 X, Y, Z = unknown("x"), unknown("y"), unknown("z")
@@ -88,6 +88,11 @@ class Making(unittest.TestCase):
     def test_plus_leaves_out_what_cancels(self):
         self.assertEqual(plus({(): 1, ("x",): 2}, {(): -1, ("x",): 1}), {("x",): 3})
         self.assertEqual(plus({("x",): GREAT}, {("x",): -GREAT}), {})
+
+    def test_collected(self):
+        self.assertEqual(collected([]), {})
+        self.assertEqual(collected([(("x",), 2), ((), 1), (("x",), 3), (("y",), 4), ((), -1)]), {("x",): 5, ("y",): 4})
+        self.assertEqual(collected([(("x", "y"), GREAT), (("x", "y"), -GREAT), (("x",), 0)]), {})
 
     def test_sum_of(self):
         self.assertEqual(sum_of([]), {})

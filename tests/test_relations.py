@@ -6,7 +6,8 @@ import itertools
 import unittest
 
 from runroots.poly import constant, minus, plus, times, unknown
-from runroots.relations import equal, holds, is_relation, row_member
+from runroots.relations import equal, holds, is_relation, one_apart, row_member, zero_test
+from tests.formulas import relation, relations
 
 A, B, X, Y, Z, N = [unknown(name) for name in "abxyzn"]
 HUGE = (10 ** 30, 10 ** 30 + 1, 10 ** 200)
@@ -80,6 +81,14 @@ class Equal(unittest.TestCase):
         self.assertEqual(equal(constant(2), constant(2)), ("zero", {}))
         for x, y in itertools.product(range(4), repeat=2):
             self.assertIs(holds(equal(X, Y), {"x": x, "y": y}), x == y)
+
+    def test_one_apart(self):
+        self.assertEqual(one_apart(X, Y, Z), relation("x * x - (z * z - 1) * y * y = 1"))
+        self.assertEqual(one_apart(X, Y, constant(2)), relation("x * x - 3 * y * y - 1 = 0"))
+
+    def test_zero_test(self):
+        self.assertEqual(tuple(zero_test(minus(X, constant(3)), Y, Z)), relations(
+            "(x - 3) * y = 0\ny * y - y = 0\nx - 3 + y - 1 - z = 0"))
 
 
 class Under(unittest.TestCase):

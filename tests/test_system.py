@@ -6,8 +6,8 @@ import unittest
 from runroots.errors import BadSystem, BadValues, NotSolution
 from runroots.poly import constant, minus, plus, times, unknown
 from runroots.system import (
-    System, check, demand_solution, demand_values, joined, lowered, renamed, stem, values_of, with_witnesses,
-    witness_names,
+    System, check, demand_solution, demand_values, demand_zeros, has_zeros_alone, joined, lowered, renamed, stem,
+    values_of, with_witnesses, witness_names,
 )
 
 X, Y, Z = unknown("x"), unknown("y"), unknown("z")
@@ -265,6 +265,18 @@ class Demands(unittest.TestCase):
             self.assertEqual(caught.exception.index, index)
         with self.assertRaises(BadValues):
             demand_solution(example(), {"x": 3})
+
+    def test_zeros_alone(self):
+        for some in ([], [SQUARE], [SQUARE, ("zero", {}), SQUARE]):
+            system = System(["x"], some)
+            self.assertIs(has_zeros_alone(system), True)
+            demand_zeros(system)
+        for one in (ROW, ("under", X, Y), ("power", X, Y, X)):
+            for some in ([one], [SQUARE, one], [one, SQUARE]):
+                system = System(["x", "y"], some)
+                self.assertIs(has_zeros_alone(system), False)
+                with self.assertRaises(BadSystem):
+                    demand_zeros(system)
 
 
 class Stairs(unittest.TestCase):
