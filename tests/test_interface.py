@@ -42,6 +42,20 @@ FUNCTIONS = {
         "square_sums": ["n"], "four_squares": ["n"], "square_product": ["first", "second"],
         "is_three_squares": ["n"], "is_two_squares": ["n"],
     },
+    "onepoly": {
+        "only": ["system"], "with_signs": ["polynomial"], "signed_values": ["values"], "unsigned_values": ["values"],
+    },
+    "relate": {
+        "less": ["first", "second", "name"], "same_rest": ["first", "second", "modulus", "name", "other"],
+        "either": ["first", "second"], "not_zero": ["polynomial", "name"],
+    },
+    "tower": {
+        "size_of": ["system"], "sizes": ["size", "names"], "history_size": ["registers", "incs", "decs", "stops"],
+    },
+    "whole": {
+        "equations": ["text", "inputs", "answers", "names"], "carried": ["machine", "run", "c", "tower"],
+        "read": ["machine", "tower", "values"], "least_cost": ["values"],
+    },
 }
 METHODS = {
     "system": {"System": {"__init__": ["self", "unknowns", "relations"], "kinds": ["self"]}},
@@ -54,6 +68,11 @@ METHODS = {
     "rowstair": {"RowStair": {"__init__": ["self", "system"], "down": ["self", "values"], "up": ["self", "values"]}},
     "products": {"ProductStair": {
         "__init__": ["self", "upper"], "pairs": ["self"], "down": ["self", "values"], "up": ["self", "values"],
+    }},
+    "onepoly": {"OneStair": {"__init__": ["self", "upper"], "down": ["self", "values"], "up": ["self", "values"]}},
+    "tower": {"Tower": {
+        "__init__": ["self", "system", "names"], "down": ["self", "values"], "up": ["self", "values"],
+        "levels": ["self", "values"],
     }},
 }
 
